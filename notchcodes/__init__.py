@@ -1,0 +1,1 @@
+"""Fields and their codes."""
