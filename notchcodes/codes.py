@@ -6,13 +6,19 @@ MOST_HOLES = 8
 MOST_VALUES = 70
 MOST_WEIGHT = 1000
 
+# How a code tells its values.
+VALUES_TOLD = 0
+BY_WEIGHTS = 1
+BY_CHOICE = 2
+
 
 # A value's marks are kept as its notches, one number (1 for hole 1, 2 for hole 2, 4 for hole 3 ..,
 # added up), so that the marks of two values are compared in one step.
 class Code:
-    def __init__(self, text, holes, names, notches):
+    def __init__(self, text, holes, kind, names, notches):
         self.text = text
         self.holes = holes
+        self.kind = kind
         self.names = names
         self.notches = notches
         self.by_notches = {}
@@ -132,18 +138,21 @@ def read_code(text):
     reader.skip("holes")
     holes = reader.take_decimal(1, MOST_HOLES)
     reader.skip("\n")
+    kind = VALUES_TOLD
     names = []
     notches = []
     if reader.sees("weights"):
         reader.skip("weights")
+        kind = BY_WEIGHTS
         notches = read_weights(reader, holes)
         names = numbered(notches)
     elif reader.sees("choose"):
         reader.skip("choose")
+        kind = BY_CHOICE
         notches = all_chosen(reader.take_decimal(1, holes), holes)
         names = numbered(notches)
     else:
         read_values(reader, holes, names, notches)
     if not reader.ended():
         raise Fault(reader.here())
-    return Code(text, holes, names, notches)
+    return Code(text, holes, kind, names, notches)

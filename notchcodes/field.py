@@ -1,14 +1,21 @@
 """The calls on a field: they are read off one list, and answered in order."""
 
 from notchcodes.codes import marks_of, notch_at, notches_of, read_code
+from notchcodes.parting import Parting, all_accepted, fewest_needlings, least_depths, tree_told
+from notchcodes.trees import NotATree, walked
 from notchcodes.words import Fault, bytes_of
 
 FIRST_TEXT = "code none\nholes 4\nweights 7 4 2 1 to 14"
 MOST_BYTES = 2000
+MOST_HOLES_LABELLED = 5
+MOST_HOLES_COUNTED = 60
 
 NOT_BYTES = -1
+NO_TREE = -2
+NOT_COUNTED = -2
 NOT_RISING = -4
 NO_VALUE = -5
+NOT_LABELLED = -7
 # Less the place of the fault.
 FAULT = -1000
 
@@ -39,6 +46,10 @@ def counted(row):
 
 def has_value(code, value):
     return 0 <= value < len(code.notches)
+
+
+def are_values(code, row):
+    return rises(row, 0, len(code.notches) - 1)
 
 
 def answer_code(field, given):
@@ -141,6 +152,78 @@ def answer_slips(field, given):
     return [len(slips) // 3] + slips
 
 
+def answer_fewest(field, given):
+    if not are_values(field.code, given[0]):
+        return [NOT_RISING]
+    return [fewest_needlings(Parting(field.code, given[0]))[-1]]
+
+
+def answer_tree(field, given):
+    if not are_values(field.code, given[0]):
+        return [NOT_RISING]
+    return [0] + tree_told(Parting(field.code, given[0]))
+
+
+def answer_depth(field, given):
+    if not are_values(field.code, given[0]):
+        return [NOT_RISING]
+    return [least_depths(Parting(field.code, given[0]))[-1]]
+
+
+def answer_check(field, given):
+    if not are_values(field.code, given[0]):
+        return [NOT_RISING]
+    try:
+        walk = walked(given[1], field.code, given[0])
+    except NotATree:
+        return [NO_TREE]
+    return [1 if walk.parts else 0, walk.needlings, walk.depth]
+
+
+def answer_labels(field, given):
+    if not are_values(field.code, given[0]):
+        return [NOT_RISING]
+    if field.code.holes > MOST_HOLES_LABELLED:
+        return [NOT_LABELLED]
+    return [0] + fewest_needlings(Parting(field.code, given[0]))
+
+
+def answer_accept(field, given):
+    labels = given[1]
+    if not are_values(field.code, given[0]):
+        return [NOT_RISING]
+    if field.code.holes > MOST_HOLES_LABELLED:
+        return [NOT_LABELLED]
+    if all_accepted(Parting(field.code, given[0]), labels):
+        return [1, labels[-1]]
+    return [0]
+
+
+# Of sets none of which is among another there are the most if all have half of the holes.
+def answer_most(field, given):
+    holes = given[0]
+    if holes < 1 or holes > MOST_HOLES_COUNTED:
+        return [NOT_COUNTED]
+    count = 1
+    for chosen in range(holes // 2):
+        count = count * (holes - chosen) // (chosen + 1)
+    return [count]
+
+
+def answer_range(field, given):
+    first = given[0]
+    last = given[1]
+    if not has_value(field.code, first) or not has_value(field.code, last) or last < first:
+        return [NO_VALUE]
+    parting = Parting(field.code, list(range(first, last + 1)))
+    return [fewest_needlings(parting)[-1], least_depths(parting)[-1]]
+
+
+def answer_counts(field, given):
+    code = field.code
+    return [code.holes, len(code.notches), code.kind]
+
+
 ANSWERS = {
     0: answer_code,
     1: answer_text,
@@ -152,6 +235,15 @@ ANSWERS = {
     7: answer_clean,
     8: answer_nearest,
     9: answer_slips,
+    10: answer_fewest,
+    11: answer_tree,
+    12: answer_depth,
+    13: answer_check,
+    14: answer_labels,
+    15: answer_accept,
+    16: answer_most,
+    17: answer_range,
+    18: answer_counts,
 }
 
 # For each call how many whole numbers it has, and how many lists.
@@ -166,6 +258,15 @@ SHAPES = {
     7: (0, 0),
     8: (0, 0),
     9: (0, 0),
+    10: (0, 1),
+    11: (0, 1),
+    12: (0, 1),
+    13: (0, 2),
+    14: (0, 1),
+    15: (0, 2),
+    16: (1, 0),
+    17: (2, 0),
+    18: (0, 0),
 }
 
 

@@ -114,8 +114,8 @@ class ThirdPromise(unittest.TestCase):
                 self.check_alone(text)
 
     def test_values_of_a_clean_code_fall_alone(self):
-        for text in (with_values(4, "a 1 2", "b 2 3", "c 1 3", "d 4"), with_values(5, "a 1 2 3", "b 3 4", "c 1 4", "d 5"),
-                     ALONE):
+        for text in (with_values(4, "a 1 2", "b 2 3", "c 1 3", "d 4"),
+                     with_values(5, "a 1 2 3", "b 3 4", "c 1 4", "d 5"), ALONE):
             self.assertEqual(ask_of(text, CLEAN), [[1]])
             self.check_alone(text)
 
